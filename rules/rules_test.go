@@ -1,4 +1,4 @@
-// Package rules holds the program's source against the rules of shared/LANGUAGE.md, as far as its text shows them.
+// Package rules holds the program's source against those rules of shared/LANGUAGE.md that its text shows plainly: imports, layout, lengths, what stands at package level.
 package rules
 
 import (
