@@ -20,6 +20,9 @@ const (
 	infinite64 = 0x7ff0000000000000
 )
 
+// beyond32 is the bits of 2^128 - 2^103, from which on a number is rounded to the infinite one: what a conversion makes of these the language leaves open.
+const beyond32 = 0x47effffff0000000
+
 // Bits32 is the bits of a number.
 func Bits32(f float32) uint32 {
 	if f != f {
@@ -60,9 +63,15 @@ func Same64(a, b float64) bool { return Bits64(a) == Bits64(b) }
 
 // Narrow is the nearest number of the narrow kind, and whether it is the same.
 func Narrow(f float64) (float32, bool) {
-	if f != f {
+	b := Bits64(f)
+	if b == nan64 {
 		// A conversion would carry over whatever bits this NaN has.
 		return math.Float32frombits(nan32), true
+	}
+	sign := uint32(b>>32) & sign32
+	size := b &^ sign64
+	if size >= beyond32 {
+		return math.Float32frombits(infinite32 | sign), size == infinite64
 	}
 	narrow := float32(f)
 	return narrow, Same64(float64(narrow), f)

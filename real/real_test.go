@@ -226,6 +226,36 @@ func TestNarrowKnown(t *testing.T) {
 	}
 }
 
+// N3: where the range of 32 bits ends, in both directions, and what is beyond it.
+func TestNarrowBeyond(t *testing.T) {
+	for _, c := range []struct {
+		f    uint64
+		want uint32
+		same bool
+	}{
+		{0x47efffffe0000000, 0x7f7fffff, true},
+		{0x47efffffe0000001, 0x7f7fffff, false},
+		{0x47efffffefffffff, 0x7f7fffff, false},
+		{0x47effffff0000000, 0x7f800000, false},
+		{0x47effffff0000001, 0x7f800000, false},
+		{0x47efffffffffffff, 0x7f800000, false},
+		{0x47f0000000000000, 0x7f800000, false},
+		{0x47f0000000000001, 0x7f800000, false},
+		{0x7fe0000000000000, 0x7f800000, false},
+		{0x7fefffffffffffff, 0x7f800000, false},
+		{0x7ff0000000000000, 0x7f800000, true},
+	} {
+		for _, sign := range []uint64{0, 1} {
+			f := c.f | sign<<63
+			want := c.want | uint32(sign)<<31
+			g, same := real.Narrow(math.Float64frombits(f))
+			if math.Float32bits(g) != want || same != c.same {
+				t.Errorf("Narrow of bits %x: %x %v, not %x %v", f, math.Float32bits(g), same, want, c.same)
+			}
+		}
+	}
+}
+
 // N3: between each two neighbours of 32 bits the middle goes to the even one, and what is beside the middle to the nearer one.
 func TestNarrowMiddle(t *testing.T) {
 	for _, b := range sample32() {
