@@ -53,7 +53,8 @@ func TestNewMemory(t *testing.T) {
 		a, _ := cred.PrintMark(m)
 		b, _ := cred.PrintMark(m)
 		s, _ := cred.PrintSys(m.Sys)
-		all := spans(m.Sys, spanOfText(a.Body, spanOfText(b.Body, spanOfText(s.Body, nil))))
+		// All of them are kept until all are there: the memory of one that is gone may be another's, and rightly.
+		kept := []api.Sys{m.Sys}
 		for range 2 {
 			x, e := cred.ParseMark(a)
 			y, f := cred.ParseSys(s)
@@ -61,7 +62,11 @@ func TestNewMemory(t *testing.T) {
 			if e != api.OK || f != api.OK || !is {
 				t.Fatal(m, e, f)
 			}
-			all = spans(x.Sys, spans(y, spans(z.Sys, all)))
+			kept = append(kept, x.Sys, y, z.Sys)
+		}
+		all := spanOfText(a.Body, spanOfText(b.Body, spanOfText(s.Body, nil)))
+		for _, sys := range kept {
+			all = spans(sys, all)
 		}
 		if shared(all) {
 			t.Fatalf("%v: memory is shared", m)
